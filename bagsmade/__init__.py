@@ -1,0 +1,1 @@
+"""Things kept and made: goods in bags, and what they cost."""
