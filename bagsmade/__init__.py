@@ -1,1 +1,1 @@
-"""Things kept and made: goods in bags, and what they cost."""
+"""Things kept and made: goods in bags, what they cost, plans and machines that make them."""

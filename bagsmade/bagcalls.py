@@ -1,7 +1,7 @@
 """The calls that change bags or ask about them; ranges have been asked before."""
 
 from bagsmade.carrying import add_load, bag_fits, bags_around, how_many_fit, lay_bag
-from bagsmade.carrying import places_taken, put_in, take_out, weight_of_bag
+from bagsmade.carrying import places_taken, put_back, put_if_it_fits, take_out, weight_of_bag
 from bagsmade.refusals import NO_MORE_ALLOWED, NO_ROOM, NO_SUCH, TOO_FEW
 from bagsmade.stacking import count_in
 from bagsmade.state import GROUND, Bag, lacks_bag, lacks_good
@@ -26,9 +26,8 @@ def put(state, b, good, many):
     """Call 3: so many come into the bag."""
     if lacks_bag(state, b) or lacks_good(state, good):
         return [NO_SUCH]
-    if many > how_many_fit(state, b, good):
+    if not put_if_it_fits(state, b, good, many):
         return [NO_ROOM]
-    put_in(state, b, good, many)
     return [0]
 
 
@@ -46,17 +45,15 @@ def move(state, a, b, good, many):
     """Call 5: so many are taken from a, then put into b."""
     if lacks_bag(state, a) or lacks_bag(state, b) or lacks_good(state, good):
         return [NO_SUCH]
-    source = state.bags[a]
-    before = source.stacks
-    if many > count_in(before, good):
+    stacks = state.bags[a].stacks
+    held = state.bags[a].held
+    if many > count_in(stacks, good):
         return [TOO_FEW]
     take_out(state, a, good, many)
-    if many > how_many_fit(state, b, good):
-        # Not put back like others: that could leave the stacks in another order.
-        source.stacks = before
-        add_load(state, a, many * state.goods[good].weight)
+    if not put_if_it_fits(state, b, good, many):
+        # Not put like others: that could leave the stacks in another order.
+        put_back(state, a, stacks, held)
         return [NO_ROOM]
-    put_in(state, b, good, many)
     return [0]
 
 

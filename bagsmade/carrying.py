@@ -72,6 +72,27 @@ def take_out(state, b, good, many):
     add_load(state, b, -many * state.goods[good].weight)
 
 
+def put_if_it_fits(state, b, good, many):
+    """Put so many into the bag if there is room for all of them; whether there was."""
+    if many > how_many_fit(state, b, good):
+        return False
+    put_in(state, b, good, many)
+    return True
+
+
+def take_needs(state, b, needs, times):
+    """Take all of the needs, so many times, from the bag, which has them."""
+    for good, many in needs:
+        take_out(state, b, good, times * many)
+
+
+def put_back(state, b, stacks, held):
+    """The bag has the stacks again that it had when it held so much."""
+    bag = state.bags[b]
+    bag.stacks = stacks
+    add_load(state, b, held - bag.held)
+
+
 def lay_bag(state, a, b):
     """Lay the bag a, wherever it lies, into b or on the ground."""
     bag = state.bags[a]

@@ -1,6 +1,6 @@
 """The calls that tell goods and recipes, and what goods cost; ranges have been asked before."""
 
-from bagsmade.pricing import least_costs
+from bagsmade.pricing import are_fair, least_costs
 from bagsmade.refusals import GOODS_ALREADY, NEEDED_TWICE, NO_MORE_ALLOWED, NO_SUCH
 from bagsmade.state import Good, Recipe, lacks_good
 
@@ -33,3 +33,12 @@ def tell_recipe(state, good, cost, ticks, told):
 def tell_costs(state):
     """Call 10: for each good what it costs."""
     return [0] + least_costs(state.goods, state.recipes)
+
+
+def tell_fair(state, prices):
+    """Call 11: 1 if there is a price for each good, and these are fair, else 0."""
+    if len(prices) != len(state.goods):
+        return [0, 0]
+    if are_fair(state.goods, state.recipes, prices):
+        return [0, 1]
+    return [0, 0]

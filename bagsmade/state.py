@@ -35,13 +35,29 @@ class Bag:
         self.held = 0
 
 
+class Machine:
+    """A machine; recipe is a number, and no ticks are left while it waits for room or is idle."""
+
+    def __init__(self, takes_from, puts_into, recipe):
+        self.takes_from = takes_from
+        self.puts_into = puts_into
+        self.recipe = recipe
+        self.ordered = 0
+        self.works = False
+        self.left = 0
+        self.made = 0
+
+
 class State:
-    """All goods, recipes and bags, each by its number."""
+    """All goods, recipes, bags and machines, each by its number; what was paid, and the ticks gone by."""
 
     def __init__(self):
         self.goods = []
         self.recipes = []
         self.bags = []
+        self.machines = []
+        self.paid = 0
+        self.ticks = 0
 
 
 def lacks_good(state, good):
@@ -52,3 +68,13 @@ def lacks_good(state, good):
 def lacks_bag(state, b):
     """Whether there is no such bag; the ground is always there."""
     return b >= len(state.bags)
+
+
+def lacks_recipe(state, recipe):
+    """Whether there is no such recipe."""
+    return recipe >= len(state.recipes)
+
+
+def lacks_machine(state, machine):
+    """Whether there is no such machine."""
+    return machine >= len(state.machines)

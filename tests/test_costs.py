@@ -1,8 +1,4 @@
-from helper import Case, bag, costs, goods, put, recipe
-
-
-def priced(*prices):
-    return goods(*[number for price in prices for number in (1, 1, price)])
+from helper import Case, bag, costs, priced, put, recipe
 
 
 class Costs(Case):
